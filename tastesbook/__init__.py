@@ -1,0 +1,1 @@
+"""Tastesbook: what purchases say of a taste."""
