@@ -60,12 +60,14 @@ def check_day(book, day):
         raise NoDay("the book has no day of this number")
 
 
+def cost_at(prices, amounts):
+    return sum([price * amount for price, amount in zip(prices, amounts)])
+
+
 def cost(book, day, other):
     check_day(book, day)
     check_day(book, other)
-    prices = book[day][0]
-    amounts = book[other][1]
-    return sum([price * amount for price, amount in zip(prices, amounts)])
+    return cost_at(book[day][0], book[other][1])
 
 
 def purse(book, day):
