@@ -1,6 +1,6 @@
 """Days and books, and what the amounts of a day cost."""
 
-from tastesbook.amounts import is_int
+from tastesbook.amounts import is_int, share_of
 from tastesbook.errors import NoBook, NoDay
 
 MOST_DAYS = 8
@@ -72,3 +72,13 @@ def cost(book, day, other):
 
 def purse(book, day):
     return cost(book, day, day)
+
+
+def shares_from(book, day):
+    return tuple([share_of(cost(book, day, other), purse(book, day)) for other in range(len(book))])
+
+
+# Row by row, for each day: what each day's amounts cost at its prices, as a
+# share of its purse.
+def shares_of(book):
+    return tuple([shares_from(book, day) for day in range(len(book))])

@@ -33,6 +33,27 @@ class Rolls:
         return tuple(told)
 
 
+def highest_book(rolls, days):
+    """Numbers near both bounds, so that costs lie far apart and hard by one another."""
+    def price():
+        return rolls.between(1, 3) if rolls.below(2) else HIGHEST_PRICE - rolls.below(3)
+
+    def amount():
+        return rolls.below(3) if rolls.below(2) else HIGHEST_AMOUNT - rolls.below(3)
+
+    book = []
+    for day in range(days):
+        amounts = (amount(), amount(), amount(), amount(), amount(), 1 + amount() // 2)
+        book.append((tuple([price() for ware in range(6)]), amounts))
+    return tuple(book)
+
+
+def shuffled(rolls, book):
+    """The same days in another order."""
+    order = sorted(range(len(book)), key=lambda day: rolls.below(1000))
+    return tuple([book[day] for day in order])
+
+
 def book_of_costs(costs):
     """A book of up to six days in which costs[day][other] is the cost: each day buys one piece of its own ware."""
     days = len(costs)

@@ -2,8 +2,8 @@ import itertools
 import unittest
 
 from samples import (
-    HIGHEST_AMOUNT, HIGHEST_PRICE, Rolls, book_of_costs, book_of_marks, has_ring, mark_tables, octagon, plain_cost,
-    plain_marks, row_of_eight, some_marks,
+    HIGHEST_AMOUNT, HIGHEST_PRICE, Rolls, book_of_costs, book_of_marks, has_ring, highest_book, mark_tables, octagon,
+    plain_cost, plain_marks, row_of_eight, shuffled, some_marks,
 )
 from tastesbook.amounts import share_of
 from tastesbook.tastes import taste_of, worth
@@ -17,21 +17,6 @@ EXPLAINED = (
 )
 # At each day's prices the other day's amounts cost half of the purse.
 HALVES = book_of_costs([[2, 1], [1, 2]])
-
-
-def highest_book(rolls, days):
-    """Numbers near both bounds, so that costs lie far apart and hard by one another."""
-    def price():
-        return rolls.between(1, 3) if rolls.below(2) else HIGHEST_PRICE - rolls.below(3)
-
-    def amount():
-        return rolls.below(3) if rolls.below(2) else HIGHEST_AMOUNT - rolls.below(3)
-
-    book = []
-    for day in range(days):
-        amounts = (amount(), amount(), amount(), amount(), amount(), 1 + amount() // 2)
-        book.append((tuple([price() for ware in range(6)]), amounts))
-    return tuple(book)
 
 
 class TasteCase(unittest.TestCase):
@@ -198,8 +183,7 @@ class TasteOfTest(TasteCase):
         for book in books:
             kind = taste_of(book)[0]
             for turn in range(10):
-                order = sorted(range(len(book)), key=lambda day: rolls.below(1000))
-                self.assert_kind(kind, tuple([book[day] for day in order]))
+                self.assert_kind(kind, shuffled(rolls, book))
 
     def test_the_book_of_nine_days_and_longer_amounts(self):
         rolls = Rolls(45)
